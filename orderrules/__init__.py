@@ -1,0 +1,1 @@
+"""Orderrules: rules of order for texts."""
