@@ -5,6 +5,8 @@ from orderrules.rules import is_rule
 from orderrules.signs import is_text
 
 MOST_TEXTS = 12
+MOST_RULES = 8
+MOST_LISTS = 20
 
 
 def check_rule(value):
@@ -25,3 +27,19 @@ def check_texts(value):
         raise BadText("a list of texts has 1 to 12 texts")
     for text in value:
         check_text(text)
+
+
+def check_family(value):
+    """Raise BadRule if a value is not a family of rules."""
+    if not isinstance(value, list) or not 1 <= len(value) <= MOST_RULES:
+        raise BadRule("a family is a list of 1 to 8 rules")
+    for rule in value:
+        check_rule(rule)
+
+
+def check_lists(value):
+    """Raise BadText if a value is not a list of lists of texts."""
+    if not isinstance(value, list) or not 1 <= len(value) <= MOST_LISTS:
+        raise BadText("there are 1 to 20 lists of texts")
+    for texts in value:
+        check_texts(texts)

@@ -1,7 +1,7 @@
 """Comparing and sorting texts by a rule."""
 
 from orderrules.checking import check_rule, check_text, check_texts
-from orderrules.keys import compare_keys, key_of
+from orderrules.keys import compare_keys, compare_texts, key_of
 from orderrules.pieces import cut
 
 
@@ -17,7 +17,7 @@ def compare(rule, one, other):
     check_rule(rule)
     check_text(one)
     check_text(other)
-    return compare_keys(rule, key_of(rule, one), key_of(rule, other))
+    return compare_texts(rule, one, other)
 
 
 def sorted_by(rule, texts):

@@ -40,3 +40,8 @@ def compare_keys(rule, one, other):
         return 0
     told = -1 if one < other else 1
     return -told if rule[4] == 1 else told
+
+
+def compare_texts(rule, one, other):
+    """Return the comparison of two texts that need no check."""
+    return compare_keys(rule, key_of(rule, one), key_of(rule, other))

@@ -79,6 +79,34 @@ WRONG_LENGTHS = [
 ]
 
 
+WRONG_FAMILIES = [
+    None, True, 0, 1, "", "apart", b"apart", (), {}, set(), object(), len, [], P, list(P), (P,), (P, Q),
+    {P: 1}, {P}, {0: P}, [P] * 9, [P] * 20, [[P]], [[P], [Q]], [P, [Q]],
+] + [[value] for value in WRONG_RULES] + [
+    [P, None], [P, Q, 0], [None, P], [P, Q, list(P)], [P] * 7 + [P[:4]], [P] * 7 + [WRONG_RULES[-4]],
+    [WRONG_RULES[-7]] + [P] * 7, [P] * 3 + [("apart", "signs", "ahead", "first", True)],
+]
+
+WRONG_LISTS_OF_LISTS = [
+    None, True, 3, "", "ab", b"ab", (), (["a"],), {}, {"a": 1}, {"a"}, object(), len, [],
+    ["a"], ["a", "b"], [["a"], "b"], [["a"]] * 21, [["a"]] * 40, [[["a"]]],
+] + [[value] for value in WRONG_LISTS] + [[["a", "b"], value] for value in WRONG_LISTS] + [
+    [["a"]] * 19 + [[]], [["a"]] * 19 + [["a"] * 13], [[]] + [["a"]] * 19, [["a"], ["b"], ["c", "-"]],
+]
+
+WRONG_PARTINGS = [
+    None, True, 0, 1, "", "[[0], [1]]", b"", (), {}, {0: 1}, set(), {0, 1}, object(), len,
+    [], [[]], [[], []], [0], [0, 1], [[0]], [[1]], [[0], []], [[0, 1], []], [[], [0, 1]],
+    [[1], [0]], [[1, 0]], [[0], [0, 1]], [[0, 0], [1]], [[0], [1], [1]], [[0], [1], [2]], [[0, 1, 2]],
+    [[0], [2]], [[1], [2]], [[-1], [0], [1]], [[0, -1]], [[0, 1], [2, 3, 4]],
+    ([0], [1]), [(0,), (1,)], [(0, 1)], ([0, 1],), [[0], (1,)], ((0,), (1,)), [{0: 0}, {1: 1}], [{0}, {1}],
+    [[False], [True]], [[0], [True]], [[False], [1]], [[False, True]], [[0, True]], [[False, 1]],
+    [["0"], ["1"]], [["0", "1"]], [[None], [None]], [None, None], ["0", "1"], ["01"],
+    [[[0]], [[1]]], [[[0], [1]]], [[0], [1], None], [[0], 1], [0, [1]], [[0], [None]], [[P], [Q]],
+    [[0, [1]]], [[0], [(1,)]], [[object()], [1]], [[10 ** 30]], [[0], [10 ** 30]],
+]
+
+
 def rule(case="apart", figures="signs", bars="ahead", ends="first", turned=0):
     """Return a rule, with P's words where none are told."""
     return (case, figures, bars, ends, turned)

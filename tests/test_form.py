@@ -11,7 +11,7 @@ import os
 import unittest
 
 import orderrules
-from orderrules import comparing, errors, rules, signs
+from orderrules import comparing, errors, partings, reading, rules, signs, steady, telling
 
 FOLDER = os.path.dirname(os.path.abspath(orderrules.__file__))
 
@@ -34,12 +34,27 @@ ALLOWED_BUILTINS = set(
     "NotImplemented".split()
 )
 
+METHODS = set(
+    "append clear copy count endswith extend find get index insert isalnum isalpha isdigit islower "
+    "isspace isupper items join keys ljust lower lstrip partition pop remove replace reverse rfind "
+    "rjust rpartition rsplit rstrip setdefault sort split splitlines startswith strip update upper "
+    "values zfill add discard".split()
+)
+
+ITERATING = {"list", "tuple", "dict", "sorted", "sum", "any", "all", "enumerate", "zip", "min", "max",
+             "combinations", "permutations", "product"}
+
 INTERFACE = [
     (errors, {"OrderError": None, "BadRule": None, "BadText": None, "BadNumber": None,
               "NotFound": None}),
     (signs, {"is_text": 1, "plain_texts": 1}),
     (rules, {"is_rule": 1, "all_rules": 0}),
     (comparing, {"pieces_of": 2, "compare": 3, "sorted_by": 2, "first_wrong": 2}),
+    (reading, {"allows": 2, "remains": 2, "bars": 2, "sorts_so": 3, "sorters": 3}),
+    (telling, {"same": 2, "telling_pair": 2, "classes": 1, "telling_table": 1, "mirrors": 2, "finer": 2,
+               "ties_alike": 2}),
+    (partings, {"all_partings": 1, "pair_for": 2, "signs_needed": 1, "finding_plan": 1}),
+    (steady, {"two_compare": 4, "two_same": 3, "two_of": 2, "hides": 2}),
 ]
 
 
@@ -126,6 +141,39 @@ class Words(unittest.TestCase):
                 if isinstance(node, ast.Name) and node.id in BUILTINS:
                     with self.subTest(name=name, line=node.lineno):
                         self.assertIn(node.id, ALLOWED_BUILTINS)
+
+
+class Calls(unittest.TestCase):
+    """What L23 and L25 say of calls."""
+
+    def test_methods(self):
+        for name in package_files():
+            for node in ast.walk(tree_of(name)):
+                if isinstance(node, ast.Call) and isinstance(node.func, ast.Attribute):
+                    with self.subTest(name=name, line=node.lineno):
+                        self.assertIn(node.func.attr, METHODS)
+
+    def test_ranges_and_views_are_iterated_at_once(self):
+        for name in package_files():
+            for parent in ast.walk(tree_of(name)):
+                for node in ast.iter_child_nodes(parent):
+                    if self.is_view(node):
+                        with self.subTest(name=name, line=node.lineno):
+                            self.assertTrue(self.iterates(parent, node))
+
+    def is_view(self, node):
+        if not isinstance(node, ast.Call):
+            return False
+        if isinstance(node.func, ast.Name):
+            return node.func.id in ("range", "zip", "enumerate", "reversed")
+        return isinstance(node.func, ast.Attribute) and node.func.attr in ("items", "keys", "values")
+
+    def iterates(self, parent, node):
+        if isinstance(parent, (ast.For, ast.comprehension)):
+            return parent.iter is node
+        if isinstance(parent, ast.Call) and isinstance(parent.func, ast.Name):
+            return parent.func.id in ITERATING and parent.args[0] is node
+        return False
 
 
 class Imports(unittest.TestCase):
