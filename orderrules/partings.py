@@ -1,11 +1,9 @@
 """Finding a hidden rule of a family by chosen pairs."""
 
-from itertools import combinations
-
 from orderrules.checking import check_family
 from orderrules.errors import NotFound
-from orderrules.pairs import signs_of
-from orderrules.tellings import all_tellings
+from orderrules.marks import ANSWERS, marks_of
+from orderrules.pairs import PAIRS, signs_of
 from orderrules.wholes import is_whole
 
 MOST_HERE = 4
@@ -14,7 +12,7 @@ MOST_HERE = 4
 def all_partings(family):
     """Return the list of tuples (parting, signs), ascending by signs."""
     check_few(family)
-    ranked = sorted([(signs_of(pair), parting) for parting, pair in least_pairs(family)])
+    ranked = sorted([(signs_of(pair), parting) for parting, pair in partings_and_pairs(family)])
     return [(parting, signs) for signs, parting in ranked]
 
 
@@ -22,7 +20,7 @@ def pair_for(family, parting):
     """Return a pair with as few signs as can be that makes a parting."""
     check_few(family)
     if is_groups(parting):
-        for found, pair in least_pairs(family):
+        for found, pair in partings_and_pairs(family):
             if found == parting:
                 return pair
     raise NotFound("no pair makes this parting")
@@ -55,21 +53,37 @@ def is_groups(value):
     return all([is_whole(place, 0, MOST_HERE) for group in value for place in group])
 
 
-def least_pairs(family):
-    """Return the list of tuples (parting, pair), each parting once."""
-    places = list(range(len(family)))
+def all_places(family):
+    """Return the tuple of the places of a family."""
+    return tuple(range(len(family)))
+
+
+def partings_and_pairs(family):
+    """Return the list of tuples (parting, pair), ascending by signs, each parting once."""
+    places = all_places(family)
+    return [(list(groups_by(told, places).values()), pair) for told, pair in least_tellings(family)]
+
+
+def least_tellings(family):
+    """Return the list of tuples (told, pair), ascending by signs.
+
+    Told is the tuple of the marks that the rules of the family have for the
+    pair. Of the pairs that make a parting only the first, which has the least
+    signs, stands here.
+    """
+    columns = [marks_of(rule) for rule in family]
     found = {}
-    for told, pair in all_tellings(family):
-        parting = list(groups_by(told, places).values())
-        # Unlike answers may make the same groups, the first with least signs.
-        name = tuple([tuple(group) for group in parting])
-        if name not in found:
-            found[name] = (parting, pair)
+    for place, pair in enumerate(PAIRS):
+        told = tuple([marks[place] for marks in columns])
+        # Unlike marks may make the same groups.
+        groups = tuple([told.index(mark) for mark in told])
+        if groups not in found:
+            found[groups] = (told, pair)
     return list(found.values())
 
 
 def groups_by(told, places):
-    """Return a dict: for each comparison the ascending list of its places."""
+    """Return a dict: for each mark the ascending list of its places."""
     groups = {}
     for place in places:
         groups.setdefault(told[place], []).append(place)
@@ -78,32 +92,36 @@ def groups_by(told, places):
 
 def plan_for_all(family):
     """Return the signs needed for a family, and a plan."""
-    tellings = all_tellings(family)
-    plans = {}
-    # What is left is fewer rules each time, so smaller groups come first.
-    for many in range(1, len(family) + 1):
-        for places in combinations(range(len(family)), many):
-            plans[places] = best_plan(tellings, places, plans)
-    return plans[tuple(range(len(family)))]
+    return best_plan(least_tellings(family), all_places(family), {})
 
 
 def best_plan(tellings, places, plans):
     """Return the signs needed for the rules at some places, and a plan.
 
-    The plans are those for all smaller groups of places.
+    The plans hold what is known for places so far, and get what is found.
     """
-    asked = []
-    for told, pair in tellings:
-        groups = groups_by(told, places)
-        if len(groups) > 1:
-            asked.append(plan_of_asking(pair, groups, plans))
-    if asked:
-        return min(asked, key=lambda signs_and_plan: signs_and_plan[0])
-    return (0, ("left", list(places)))
+    if places not in plans:
+        asked = []
+        for told, pair in tellings:
+            groups = groups_by(told, places)
+            if len(groups) > 1:
+                asked.append(plan_of_asking(tellings, pair, groups, plans))
+        plans[places] = min(asked, key=signs_of_plan, default=(0, ("left", list(places))))
+    return plans[places]
 
 
-def plan_of_asking(pair, groups, plans):
+def signs_of_plan(signs_and_plan):
+    """Return the signs of a tuple (signs, plan)."""
+    return signs_and_plan[0]
+
+
+def plan_of_asking(tellings, pair, groups, plans):
     """Return the signs needed if a pair is asked that makes groups, and a plan."""
-    behind = [(answer, plans[tuple(groups[answer])]) for answer in sorted(groups)]
-    signs = signs_of(pair) + max([needed[0] for _, needed in behind])
-    return (signs, ("ask", pair, [(answer, needed[1]) for answer, needed in behind]))
+    signs = 0
+    parts = []
+    for mark in sorted(groups):
+        needed, plan = best_plan(tellings, tuple(groups[mark]), plans)
+        signs = max(signs, needed)
+        # Marks are ascending just as what they tell.
+        parts.append((ANSWERS[mark], plan))
+    return (signs_of(pair) + signs, ("ask", pair, parts))

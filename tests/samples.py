@@ -78,6 +78,10 @@ WRONG_LENGTHS = [
     -1, 6, 7, -100, 10 ** 30, True, False, None, "2", "", b"2", [], [2], (2,), {}, object(),
 ]
 
+# For any function that counts; each has a limit of its own besides.
+WRONG_COUNTED = [
+    -1, -7, -20, 22, 100, 10 ** 30, -10 ** 30, True, False, None, "1", "", b"1", [], [1], (1,), {}, {1}, object(), len,
+]
 
 WRONG_FAMILIES = [
     None, True, 0, 1, "", "apart", b"apart", (), {}, set(), object(), len, [], P, list(P), (P,), (P, Q),

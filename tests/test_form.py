@@ -11,7 +11,9 @@ import os
 import unittest
 
 import orderrules
-from orderrules import comparing, errors, partings, reading, rules, signs, steady, telling
+from orderrules import (
+    comparing, counting, errors, forms, partings, reading, rules, shelves, signs, steady, telling, ties,
+)
 
 FOLDER = os.path.dirname(os.path.abspath(orderrules.__file__))
 
@@ -55,7 +57,14 @@ INTERFACE = [
                "ties_alike": 2}),
     (partings, {"all_partings": 1, "pair_for": 2, "signs_needed": 1, "finding_plan": 1}),
     (steady, {"two_compare": 4, "two_same": 3, "two_of": 2, "hides": 2}),
+    (ties, {"parts_all": 1, "first_tie": 1}),
+    (counting, {"count_ahead": 3, "count_beside": 3, "count_same": 3}),
+    (shelves, {"Shelf": 1}),
+    (forms, {"format_rule": 1, "parse_rule": 1}),
 ]
+
+# The arguments behind the object itself.
+SHELF = {"put": 1, "texts": 0, "place": 1, "beside": 1, "undo": 0, "__len__": 0}
 
 
 def package_files():
@@ -143,15 +152,49 @@ class Words(unittest.TestCase):
                         self.assertIn(node.id, ALLOWED_BUILTINS)
 
 
+    def test_module_level_values(self):
+        # A tuple, a list or a dict holds plain values, and tuples of these.
+        for name in package_files():
+            for node in tree_of(name).body:
+                if isinstance(node, ast.Assign):
+                    with self.subTest(name=name, line=node.lineno):
+                        self.assertTrue(self.is_plain(ast.literal_eval(node.value), True))
+
+    def is_plain(self, value, outside):
+        if isinstance(value, tuple):
+            return all(self.is_plain(item, False) for item in value)
+        if isinstance(value, list):
+            return outside and all(self.is_plain(item, False) for item in value)
+        if isinstance(value, dict):
+            return outside and all(self.is_plain(item, False) for pair in value.items() for item in pair)
+        return isinstance(value, (int, str)) or value is None
+
+    def test_exponents(self):
+        # An exponent is the variable of a comprehension over a range of literals.
+        for name in package_files():
+            nodes = list(ast.walk(tree_of(name)))
+            allowed = [power for node in nodes if isinstance(node, ast.ListComp)
+                       for power in ast.walk(node) if isinstance(power, ast.BinOp)
+                       and ast.unparse(node.generators[0].iter) == "range(21)"
+                       and ast.unparse(power.right) == ast.unparse(node.generators[0].target)]
+            for power in nodes:
+                if isinstance(power, ast.BinOp) and isinstance(power.op, ast.Pow):
+                    with self.subTest(name=name, line=power.lineno):
+                        self.assertIn(ast.dump(power), [ast.dump(node) for node in allowed])
+
+
 class Calls(unittest.TestCase):
     """What L23 and L25 say of calls."""
 
     def test_methods(self):
         for name in package_files():
-            for node in ast.walk(tree_of(name)):
+            tree = tree_of(name)
+            own = {method.name for node in ast.walk(tree) if isinstance(node, ast.ClassDef)
+                   for method in node.body if isinstance(method, ast.FunctionDef)}
+            for node in ast.walk(tree):
                 if isinstance(node, ast.Call) and isinstance(node.func, ast.Attribute):
                     with self.subTest(name=name, line=node.lineno):
-                        self.assertIn(node.func.attr, METHODS)
+                        self.assertIn(node.func.attr, METHODS | own)
 
     def test_ranges_and_views_are_iterated_at_once(self):
         for name in package_files():
@@ -228,6 +271,18 @@ class Interface(unittest.TestCase):
                     self.assertEqual(value.__module__, module.__name__)
                     if arguments is not None:
                         self.assertEqual(len(inspect.signature(value).parameters), arguments)
+
+    def test_methods_of_the_class(self):
+        for name, arguments in SHELF.items():
+            with self.subTest(name=name):
+                method = vars(shelves.Shelf)[name]
+                self.assertEqual(len(inspect.signature(method).parameters), arguments + 1)
+
+    def test_each_is_defined_in_its_file(self):
+        for module, names in INTERFACE:
+            own = [node.name for node in tree_of(module.__name__.split(".")[1] + ".py").body
+                   if isinstance(node, (ast.FunctionDef, ast.ClassDef))]
+            self.assertLessEqual(set(names), set(own))
 
 
 if __name__ == "__main__":
