@@ -26,7 +26,7 @@ def some_texts():
     """Return a list of texts of many kinds, of all lengths, signs that are not plain among them."""
     chance = random.Random(7)
     texts = set(MANY_TEXTS)
-    for signs in ("01AB_ab", "0a", "01", "01_", "0A_a", "07Zz_a", "0001Aa_", "abAB"):
+    for signs in ("01AB_ab", "0a", "01", "01_", "0A_a", "07Zz_a", "0001Aa_", "abAB", "012", "0012a_", "0123456789"):
         for longest in (3, 6, 12, 21, 25, 40):
             for _ in range(4):
                 texts.add("".join(chance.choice(signs) for _ in range(chance.randint(0, longest))))
@@ -152,8 +152,22 @@ class ByHand(unittest.TestCase):
         self.assertEqual(count_beside(strict, "0" * 40, 20), 0)
         self.assertEqual(count_beside(numbers, "0" * 39 + "1", 20), 1)
         self.assertEqual(count_beside(numbers, "0" * 39 + "7", 20), 0)
+        self.assertEqual(count_beside(numbers, "0" * 39 + "2", 20), 0)
         self.assertEqual(count_beside(numbers, "1" + "0" * 20, 20), 0)
         self.assertEqual(count_beside(numbers, "0" * 20 + "1" + "0" * 19, 20), 1)
+
+    def test_figures_that_are_not_plain(self):
+        for figure in "23456789":
+            for figures in ("signs", "numbers", "strict"):
+                each = rule(figures=figures)
+                # The bar and both figures come ahead, whatever stands behind them.
+                self.assertEqual(count_ahead(each, figure, 1), 3)
+                self.assertEqual(count_beside(each, figure, 1), 0)
+                self.assertEqual(count_beside(each, "1" + figure + "a", 3), 0)
+        self.assertEqual(count_ahead(rule(figures="signs"), "2", 20), 3 * 7 ** 19)
+        # "1" and "01" are less than "2", "10" and "11" are not.
+        self.assertEqual(count_ahead(rule(figures="numbers"), "2", 2), 7 + 2 * 5 + 2)
+        self.assertEqual(count_ahead(rule(figures="numbers"), "12", 2), 7 + 2 * 5 + 4)
 
     def test_zeros_are_spread(self):
         # 17 zeros more, ahead of the first number, the second one, or both.
